@@ -1,0 +1,115 @@
+"""The names of the interface: each in its file, with its parameters, each method in its class."""
+
+import ast
+import importlib
+import inspect
+import unittest
+
+from weavestore import disc, errors, lines
+
+ROWS = {
+    "disc": "Disc(cells); may_hold(disc, cell), many_pictures(disc), picture_at(disc, number), "
+            "number_of_picture(disc, picture), is_picture(disc, value), disc_of(picture), fall(disc, picture), "
+            "cloud(disc, runs), is_in_cloud(cloud, value), many_in_cloud(cloud), unlike_cells(one, other), "
+            "with_cells(one, harms)",
+    "codes": "is_code(value), is_picture(code, one, other, value, changed, unread), twos(code, value, changed, unread), "
+             "told_pages(code, value, changed, unread), told_page(code, value, changed, unread), "
+             "is_safe(code, changed, unread), cells_unlike(code, one, other, third), cells_parted(code, pair, late), "
+             "bad_picture(code, changed, unread), is_bad_picture(code, changed, unread, value), strengths(code), "
+             "composed(code, inner), overwritten(code, value, one, cells)",
+    "lines": "Line(prime, cells, size); page_of(line, number), number_of(line, page), holds(line, changed, unread), "
+             "agreeing(line, number, value), read_line(line, value, changed, unread), "
+             "mixture_of(line, number, other, cells)",
+    "pages": "text_number(text), number_text(number), page_line(), page_cells(place), page_writes(place, text), "
+             "shown(picture, place), is_whole(picture, place), off_cells(picture, place), mending(picture, place), "
+             "agreement(picture, place)",
+    "waits": "is_run(value), are_waits(run, value), may_stand(run, moment), is_moment_picture(run, moment, value), "
+             "is_kept(run, wait), why_broken(run, wait), is_why_broken(run, wait, value), broken(run, waits), "
+             "is_enough(run, waits, places), barriers_for(run, waits), many_least(run, waits), apart_waits(run, waits), "
+             "are_apart(run, waits, value), with_barriers(run, places), waits_then(run, waits, places), bare(run), "
+             "needless(run, waits), spared(run, waits), woven(one, other, order), "
+             "waits_woven(one, waits, other, late, order), best_order(one, waits, other, late), "
+             "is_best_order(one, waits, other, late, value), syncs(due), served(due, moments)",
+    "deeds": "is_deed(value), are_deeds(value), stamps_behind(deeds, number), stamps_read(deeds, number), "
+             "are_stamps(deeds, value), walked(deeds, stamps, numbers), are_right(deeds, stamps), redone(deeds, stamps), "
+             "why_wrong(deeds, stamps), is_why_wrong(deeds, stamps, value), newest_right(deeds, stamps), "
+             "next_right(deeds, stamps), all_mixes_right(deeds, one, other), wrong_mix(deeds, one, other), "
+             "is_wrong_mix(deeds, one, other, value)",
+    "backs": "waits(deeds, stamps), free_pages(deeds, stamps), ring(deeds, stamps), is_ring(deeds, stamps, value), "
+             "groups(deeds, stamps), row_of_waits(deeds, stamps), is_row_of_waits(deeds, stamps, value), "
+             "closes_ring(deeds, stamps, deed), ahead_of(deeds, stamps, deed), "
+             "may_write(deeds, stamps, page, lines, unbarred, mixed), "
+             "why_not_write(deeds, stamps, page, lines, unbarred, mixed)",
+}
+METHODS = [
+    (disc.Disc, "write(cell, content), barrier(), read(cell), cells(), standing(), newest(), pending(), copy()"),
+    (lines.Line, "prime(), cells(), size()"),
+]
+ERRORS = (
+    "InvalidDisc InvalidCell InvalidContent InvalidChoice InvalidCode InvalidPage InvalidLine InvalidRun InvalidMoment "
+    "InvalidOrder InvalidDeed InvalidDeeds InvalidStamps InvalidChain InvalidBook InvalidKey InvalidThing InvalidWrites "
+    "InvalidCommit InvalidSnapshot InvalidHeld InvalidQuestion InvalidName InvalidKind InvalidTransaction "
+    "InvalidHistory InvalidPrograms InvalidShelf InvalidState InvalidTable InvalidRow InvalidText InvalidStore "
+    "InvalidSpot InvalidScript InvalidRecord InvalidCount Unlike Full Refused Fallen"
+).split()
+
+
+def told(row):
+    """The tuples of a name and of the list of its parameters."""
+    calls = ast.parse("[" + row.replace(";", ",") + "]").body[0].value.elts
+    return [(call.func.id, [part.id for part in call.args]) for call in calls]
+
+
+class InterfaceTest(unittest.TestCase):
+    def test_names_and_parameters_in_their_files(self):
+        for module, row in ROWS.items():
+            held = importlib.import_module("weavestore." + module)
+            for name, parameters in told(row):
+                member = getattr(held, name)
+                self.assertEqual(list(inspect.signature(member).parameters), parameters, name)
+                self.assertEqual(member.__module__, "weavestore." + module)
+                self.assertTrue(inspect.isfunction(member) or inspect.isclass(member))
+
+    def test_methods_in_their_classes(self):
+        for held, row in METHODS:
+            for name, parameters in told(row):
+                self.assertIn(name, vars(held))
+                self.assertEqual(list(inspect.signature(vars(held)[name]).parameters), ["self"] + parameters)
+            self.assertIn("__eq__", vars(held))
+
+    def test_errors(self):
+        self.assertEqual(errors.StoreError.__bases__, (ValueError,))
+        for name in ERRORS:
+            member = getattr(errors, name)
+            self.assertEqual(member.__bases__, (errors.StoreError,))
+            self.assertEqual(member.__module__, "weavestore.errors")
+            self.assertEqual(str(inspect.signature(member)), "(value=None)")
+        self.assertEqual(len(ERRORS), 41)
+
+
+class ErrorsTest(unittest.TestCase):
+    def test_the_field_is_the_very_object(self):
+        for name in ERRORS:
+            for value in [None, True, 0, "x", [], (), {}, disc.Disc(1), ValueError]:
+                self.assertIs(getattr(errors, name)(value).value, value)
+                self.assertIs(getattr(errors, name)(value=value).value, value)
+            self.assertIsNone(getattr(errors, name)().value)
+
+    def test_errors_are_caught_as_store_errors(self):
+        for name in ERRORS:
+            with self.assertRaises(errors.StoreError):
+                raise getattr(errors, name)(name)
+            with self.assertRaises(ValueError):
+                raise getattr(errors, name)()
+        others = [getattr(errors, name) for name in ERRORS]
+        for one in others:
+            self.assertEqual([other for other in others if issubclass(one, other)], [one])
+
+    def test_the_base_is_made_of_nothing(self):
+        self.assertEqual(errors.StoreError().args, ())
+        with self.assertRaises(TypeError):
+            errors.StoreError(1)
+
+
+if __name__ == "__main__":
+    unittest.main()

@@ -1,0 +1,1 @@
+"""weavestore: a store of many versions that stands every weaving and every fall."""
