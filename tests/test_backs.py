@@ -107,6 +107,7 @@ class RingsTest(unittest.TestCase):
         self.assertEqual(told, {2, 3})
 
     def test_39_the_judge_of_rings(self):
+        self.assertIs(is_ring(RING, {2: 0, 3: 0}, [2, 3, 2, 3]), False)
         for value in bent([2, 3]):
             self.assertIs(is_ring(RING, {2: 0, 3: 0}, value), shape(value) in [shape([2, 3]), shape([3, 2])], value)
 

@@ -35,7 +35,9 @@ class PagesTest(unittest.TestCase):
             self.assertIs(error.value, text)
 
     def test_21_numbers_of_no_text(self):
-        for number in [53, 53 * 7, 53**2 + 5, 53**120, 53**120 + 1, 10**400, -1, True, None, "ab", [1]]:
+        beyond = [sum(digit * 53**at for at in range(121)) for digit in (1, 52)]
+        self.assertEqual(number_text(beyond[0] - 53**120), " " * 120)
+        for number in [53, 53 * 7, 53**2 + 5, 53**120, 53**120 + 1, 10**400, -1, True, None, "ab", [1]] + beyond:
             error, _ = outcome_of(number_text, number)
             self.assertIs(error.__class__, errors.InvalidPage)
             self.assertIs(error.value, number)

@@ -188,6 +188,8 @@ class RunsTest(unittest.TestCase):
             wanted = unordered(value) in [unordered(each) for each in good]
             self.assertIs(is_why_broken(run, (0, 1), value), wanted, value)
         self.assertIs(is_why_broken([("write", 0), BARRIER, TELL], (0, 2), None), False)
+        self.assertIs(is_why_broken(run, (0, 1), (4, {0: None, 1: 1})), True)
+        self.assertIs(is_why_broken(run, (0, 1), (5, {0: None, 1: 1})), False)
 
 
 class BarriersTest(unittest.TestCase):
@@ -305,7 +307,7 @@ class TwoRunsTest(unittest.TestCase):
 
     def test_31_wrong_runs_and_orders(self):
         one, other = [("write", 0), TELL], [TELL]
-        for order in [[0, 1], [0, 0, 0], [0, 0, 1, 1], [False, 0, 1], [0, 0, True], (0, 0, 1), [0, 2, 1], None]:
+        for order in [[0, 1], [0, 0, 0], [0, 0, 1, 1], [False, 0, 1], [0, 0, True], (0, 0, 1), [0, 2, 1], [0, 0, 1, 2], None]:
             for call in [lambda: woven(one, other, order), lambda: waits_woven(one, [], other, [], order)]:
                 error, _ = outcome_of(call)
                 self.assertIs(error.__class__, errors.InvalidOrder)

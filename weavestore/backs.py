@@ -1,8 +1,9 @@
 """Writing pages back in place: which may be written, which wait for others, and which wait in a ring."""
 
-from weavestore.deeds import are_right, is_deed, need_count, newest_stamps, pages_of
+from weavestore.deeds import are_right, is_deed, newest_stamps, pages_of
 from weavestore.errors import InvalidDeed, InvalidPage, InvalidStamps, Refused
 from weavestore.kinds import are_ascending_counts, is_count
+from weavestore.needs import need_count
 
 
 def need_right_stamps(deeds, stamps):

@@ -2,8 +2,9 @@
 
 from itertools import combinations
 
-from weavestore.errors import InvalidCell, InvalidCode, InvalidCount, InvalidPage, Unlike
+from weavestore.errors import InvalidCell, InvalidCode, InvalidPage, Unlike
 from weavestore.kinds import ascends, are_ascending_below, is_count, is_count_below, is_tuple_of
+from weavestore.needs import need_changed_and_unread
 
 
 def is_code(value):
@@ -34,14 +35,6 @@ def need_position(code, position):
         raise InvalidPage(position)
 
 
-def need_counts(changed, unread):
-    """Raises InvalidCount for the first one that is no count."""
-    if not is_count(changed):
-        raise InvalidCount(changed)
-    if not is_count(unread):
-        raise InvalidCount(unread)
-
-
 def shows_two(one, other, value, changed, unread):
     """Whether any object is a picture of two pages."""
     if not isinstance(value, list) or len(value) != len(one):
@@ -62,14 +55,14 @@ def is_picture(code, one, other, value, changed, unread):
     need_code(code)
     need_position(code, one)
     need_position(code, other)
-    need_counts(changed, unread)
+    need_changed_and_unread(changed, unread)
     return shows_two(code[one], code[other], value, changed, unread)
 
 
 def twos(code, value, changed, unread):
     """Returns the ascending list of the tuples of positions of which any object is a picture."""
     need_code(code)
-    need_counts(changed, unread)
+    need_changed_and_unread(changed, unread)
     rows = all_twos(code)
     return [(one, other) for one, other in rows if shows_two(code[one], code[other], value, changed, unread)]
 
@@ -135,7 +128,7 @@ def is_danger(danger, changed, unread):
 def is_safe(code, changed, unread):
     """Returns whether there is a told page for each picture of any two pages."""
     need_code(code)
-    need_counts(changed, unread)
+    need_changed_and_unread(changed, unread)
     return not any([is_danger(danger, changed, unread) for danger in all_dangers(code)])
 
 
@@ -169,7 +162,7 @@ def need_two_positions(code, pair):
 def bad_picture(code, changed, unread):
     """Returns a picture without a told page, and tuples that show it; None if the code is safe."""
     need_code(code)
-    need_counts(changed, unread)
+    need_changed_and_unread(changed, unread)
     for danger in all_dangers(code):
         if is_danger(danger, changed, unread):
             return (picture_of_danger(code, danger, changed, unread), list(danger[1]))
@@ -204,7 +197,7 @@ def shared_sign(code, tuples, cell):
 def is_bad_picture(code, changed, unread, value):
     """Returns whether any object is a picture without a told page, with tuples that show it."""
     need_code(code)
-    need_counts(changed, unread)
+    need_changed_and_unread(changed, unread)
     if not is_tuple_of(value, 2) or not are_twos(code, value[1]) or not 2 <= len(value[1]) <= 3:
         return False
     picture, rows = value

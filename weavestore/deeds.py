@@ -1,7 +1,8 @@
 """Deeds that are done again by the one list that is right, and the stamps of the pages they write."""
 
-from weavestore.errors import InvalidCount, InvalidDeed, InvalidDeeds, InvalidStamps
+from weavestore.errors import InvalidDeed, InvalidDeeds, InvalidStamps
 from weavestore.kinds import are_ascending_counts, ascends, is_count, is_tuple_of, is_word
+from weavestore.needs import need_count
 
 
 def are_words(value):
@@ -39,12 +40,6 @@ def need_deeds(deeds):
     """Raises InvalidDeeds unless it is a list of deeds."""
     if not are_deeds(deeds):
         raise InvalidDeeds(deeds)
-
-
-def need_count(number):
-    """Raises InvalidCount unless it is a count."""
-    if not is_count(number):
-        raise InvalidCount(number)
 
 
 def pages_of(deeds):

@@ -1,7 +1,8 @@
 """Lines over a prime: pages with so many signs that the mixtures of any two are read back."""
 
-from weavestore.errors import InvalidCell, InvalidCount, InvalidLine, InvalidPage, Refused
+from weavestore.errors import InvalidCell, InvalidLine, InvalidPage, Refused
 from weavestore.kinds import GREAT_PRIME, are_ascending_below, is_count, is_count_below
+from weavestore.needs import need_changed_and_unread
 from weavestore.polynomials import added, divided, inverse, multiplied, powers_of, root_of_square, solved, worth_at
 
 PRIMES_END = 1000
@@ -55,14 +56,6 @@ def need_line(line):
     """Raises InvalidLine unless it is a line."""
     if not isinstance(line, Line):
         raise InvalidLine(line)
-
-
-def need_line_counts(changed, unread):
-    """Raises InvalidCount for the first one that is no count."""
-    if not is_count(changed):
-        raise InvalidCount(changed)
-    if not is_count(unread):
-        raise InvalidCount(unread)
 
 
 def digits_of(line, number):
@@ -154,7 +147,7 @@ def number_of(line, page):
 def holds(line, changed, unread):
     """Returns whether the line has cells enough for so many changed and unread ones."""
     need_line(line)
-    need_line_counts(changed, unread)
+    need_changed_and_unread(changed, unread)
     return line.cells() > 4 * (line.size() - 1) + 3 * changed + unread
 
 
@@ -182,7 +175,7 @@ def read_line(line, value, changed, unread):
     need_line(line)
     if not is_picture_of_signs(line, value):
         raise InvalidPage(value)
-    need_line_counts(changed, unread)
+    need_changed_and_unread(changed, unread)
     if value.count(None) > unread:
         raise InvalidPage(value)
     if not holds(line, changed, unread):

@@ -127,7 +127,8 @@ def solved(rows, many, prime):
             lead = [number * back % prime for number in heads[0]]
             left = without_column(left, lead, column, prime)
             leads.append((column, lead))
-    if any([row[many] != 0 for row in left]):
+    if left:
+        # What is left tells that nought is something else.
         return None
     return filled_in(leads, many, prime)
 

@@ -95,22 +95,17 @@ def ends_of(waits):
 def many_fewest(waits, many):
     """How many lists of the fewest places there are, of so many, such that one lies in each stretch.
 
-    A list is a way from the start over its places to the end, each step leaping over no whole
-    stretch; the shortest ways are counted.
+    A list is a way from the start, which is place 0, over its places to the end, each step leaping
+    over no whole stretch; the shortest ways are counted, from the end on.
     """
-    reach = [reach_from(waits, place, many) for place in range(many)]
-    steps = [None] * (many + 1)
-    ways = [0] * (many + 1)
-    steps[0] = 0
-    ways[0] = 1
-    for place in range(many):
-        for onward in range(place + 1, reach[place] + 1):
-            if steps[place] is not None and (steps[onward] is None or steps[place] + 1 < steps[onward]):
-                steps[onward] = steps[place] + 1
-                ways[onward] = 0
-            if steps[place] is not None and steps[place] + 1 == steps[onward]:
-                ways[onward] = ways[onward] + ways[place]
-    return ways[many]
+    steps = [0] * (many + 1)
+    ways = [1] * (many + 1)
+    for place in reversed(range(many)):
+        onward = list(range(place + 1, reach_from(waits, place, many) + 1))
+        fewest = min([steps[at] for at in onward])
+        steps[place] = fewest + 1
+        ways[place] = sum([ways[at] for at in onward if steps[at] == fewest])
+    return ways[0]
 
 
 def reach_from(waits, place, many):
