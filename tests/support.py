@@ -6,6 +6,7 @@ import itertools
 from weavestore import errors
 from weavestore.disc import Disc
 from weavestore.lines import Line
+from weavestore.versions import Book
 
 GREAT = 2305843009213693951
 
@@ -21,6 +22,8 @@ def shape(value):
         return (kind, shape([value.standing(), value.newest(), value.pending()]))
     if isinstance(value, Line):
         return (kind, value.prime(), value.cells(), value.size())
+    if isinstance(value, Book):
+        return (kind, shape(value.rows()), value.newest())
     if isinstance(value, errors.StoreError):
         return (kind, id(value))
     return (kind, value)
@@ -64,6 +67,8 @@ def odd_objects():
         ((0, 1), (1, 0)), (1, 0, [0], ()), (1, {}), {}, {0: 0}, {1: 1}, {True: False}, {"a": []}, {None: None},
         {(0, 1): [0]}, {0: (1, 1)}, [[[[[]]]]], ((((),),),), {0: {0: {0: {}}}}, disc, [disc], (disc, disc), {0: disc},
         Line(3, 2, 1), [Line(3, 2, 1)], errors.InvalidCell(3), [errors.Unlike()],
+        ("a",), ("on", "ann"), ("row", "staff", 7), [("a",)], {("a",): ()}, {("a",): (1,)}, {("a",): None},
+        {("a",): [(1, ())]}, {("a",): (True,)}, {(): ()}, Book({}, 0), Book({("a",): [(1, ())]}, 1), [Book({}, 0)],
     ]
 
 

@@ -1,12 +1,12 @@
-"""What every call does with what it is passed: the right error for any object, and nothing changed."""
+"""What the calls of discs, codes, lines, pages, waits, deeds and writing back do with what they are passed."""
 
 import copy
-import random
 import unittest
 
 from tests import support
-from tests.support import Disc, Line, all_waits, are_deeds, ascend, ascend_below, bent, errors, is_bare, is_cells, is_code
-from tests.support import is_count, is_run, is_content, odd_objects, outcome_of, shape, spoil
+from tests.arguments import ArgumentsCheck, judged, unless, unless_with
+from tests.support import Disc, Line, all_waits, are_deeds, ascend, ascend_below, errors, is_bare, is_cells, is_code
+from tests.support import is_count, is_run, is_content, odd_objects
 
 
 def made_disc():
@@ -24,20 +24,6 @@ RUN = [("write", 0), ("write", 1), ("barrier",), ("tell",), ("write", 0)]
 ONE = [("write", 0), ("write", 1), ("tell",)]
 OTHER = [("write", 0), ("tell",)]
 DEEDS = [(1, 2, [2], ("put",)), (2, 3, [2, 3], ("copy", (None, 4))), (5, 2, [2], ())]
-
-
-def unless(error, fits):
-    """A judge of one argument by itself."""
-    return lambda value, given: None if fits(value) else error
-
-
-def unless_with(error, fits):
-    """A judge of one argument by those ahead of it, too."""
-    return lambda value, given: None if fits(value, given) else error
-
-
-def judged(value, given):
-    return None
 
 
 DISC = ("disc", made_disc, unless(errors.InvalidDisc, lambda value: type(value) is Disc))
@@ -385,78 +371,8 @@ SPECS = [
 ]
 
 
-def named(spec):
-    return spec[0] + "." + spec[1]
-
-
-def expected(spec, row):
-    """The class of the error and its field that the document tells for a call, None if it tells none."""
-    given = {}
-    for (name, made, judge), value in zip(spec[2], row):
-        error = judge(value, given)
-        if error is not None:
-            return error, value
-        given[name] = value
-    return spec[3](given) if len(spec) > 3 else None
-
-
-class ArgumentsTest(unittest.TestCase):
-    def check(self, spec, row):
-        """One call: the error that the document tells, or none; nothing passed is changed."""
-        function = support.function_of(spec[0], spec[1])
-        before = shape(row)
-        wanted = expected(spec, row)
-        error, result = outcome_of(function, *row)
-        self.assertEqual(shape(row), before, named(spec))
-        if wanted is None:
-            self.assertIsNone(error, (named(spec), row))
-            return result
-        self.assertIs(error.__class__, wanted[0], (named(spec), row))
-        self.assertIs(error.value, wanted[1], (named(spec), row))
-        return None
-
-    def test_the_good_calls_are_good(self):
-        for spec in SPECS:
-            self.assertIsNone(expected(spec, [made() for name, made, judge in spec[2]]), named(spec))
-
-    def test_any_object_in_the_place_of_each_argument(self):
-        for spec in SPECS:
-            for at in range(len(spec[2])):
-                for odd in odd_objects():
-                    row = [made() for name, made, judge in spec[2]]
-                    row[at] = odd
-                    self.check(spec, row)
-
-    def test_values_bent_at_a_single_place(self):
-        for spec in SPECS:
-            for at in range(len(spec[2])):
-                good = spec[2][at][1]()
-                for other in bent(good):
-                    row = [made() for name, made, judge in spec[2]]
-                    row[at] = other
-                    self.check(spec, row)
-
-    def test_the_first_wrong_argument_where_several_are_wrong(self):
-        chance = random.Random(7)
-        for spec in SPECS:
-            for _ in range(60 if len(spec[2]) > 1 else 0):
-                row = [made() for name, made, judge in spec[2]]
-                for at in range(len(row)):
-                    if chance.random() < 0.5:
-                        choices = odd_objects() + list(bent(row[at]))
-                        row[at] = chance.choice(choices)
-                self.check(spec, row)
-
-    def test_judges_tell_false_of_odd_objects_of_another_kind(self):
-        for spec in SPECS:
-            if spec[2] and spec[2][-1][2] is judged:
-                kind = spec[2][-1][1]().__class__
-                for odd in odd_objects():
-                    result = self.check(spec, [made() for name, made, judge in spec[2][:-1]] + [odd])
-                    self.assertIn(result, [True, False])
-                    self.assertIs(result.__class__, bool)
-                    if odd.__class__ is not kind:
-                        self.assertIs(result, False, (named(spec), odd))
+class ArgumentsTest(ArgumentsCheck, unittest.TestCase):
+    specs = SPECS
 
     def test_codes_tell_of_any_object_that_it_is_no_picture(self):
         for odd in odd_objects():
@@ -464,28 +380,6 @@ class ArgumentsTest(unittest.TestCase):
                 self.assertEqual(support.function_of("codes", name)(CODE, odd, 1, 1), [])
             self.assertIsNone(support.function_of("codes", "told_page")(CODE, odd, 1, 1))
             self.assertIs(support.function_of("codes", "is_picture")(CODE, 0, 1, odd, 1, 1), False)
-
-    def test_equal_calls_return_equal_results_that_are_new(self):
-        for spec in SPECS:
-            function = support.function_of(spec[0], spec[1])
-            row = [made() for name, made, judge in spec[2]]
-            first = function(*row)
-            told = shape(first)
-            if not isinstance(first, Line):
-                spoil(first)
-            self.assertEqual(shape(row), shape([made() for name, made, judge in spec[2]]), named(spec))
-            self.assertEqual(shape(function(*row)), told, named(spec))
-            late = [made() for name, made, judge in spec[2]]
-            second = function(*late)
-            for part in late:
-                spoil(part)
-            self.assertEqual(shape(second), told, named(spec))
-
-    def test_arguments_by_their_names(self):
-        for spec in SPECS:
-            function = support.function_of(spec[0], spec[1])
-            row = {name: made() for name, made, judge in spec[2]}
-            self.assertEqual(shape(function(**row)), shape(function(*row.values())), named(spec))
 
 
 if __name__ == "__main__":

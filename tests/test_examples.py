@@ -54,6 +54,18 @@ class ExamplesTest(unittest.TestCase):
     def test_backs(self):
         self.check("backs")
 
+    def test_chain(self):
+        self.check("chain")
+
+    def test_opening(self):
+        self.check("opening")
+
+    def test_room(self):
+        self.check("room")
+
+    def test_versions(self):
+        self.check("versions")
+
 
 if __name__ == "__main__":
     unittest.main()

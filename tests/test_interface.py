@@ -5,7 +5,7 @@ import importlib
 import inspect
 import unittest
 
-from weavestore import disc, errors, lines
+from weavestore import disc, errors, lines, versions
 
 ROWS = {
     "disc": "Disc(cells); may_hold(disc, cell), many_pictures(disc), picture_at(disc, number), "
@@ -40,10 +40,26 @@ ROWS = {
              "closes_ring(deeds, stamps, deed), ahead_of(deeds, stamps, deed), "
              "may_write(deeds, stamps, page, lines, unbarred, mixed), "
              "why_not_write(deeds, stamps, page, lines, unbarred, mixed)",
+    "chain": "deed_text(deed), deed_by(number, text), line_cells(line), line_at(cells), chain(places, start, ahead), "
+             "committed(chain), next_number(places, least), next_place(places, start, ahead), "
+             "ghosts(places, start, ahead)",
+    "opening": "opened(stamps, lines, ahead), told_pages(stamps, lines, lost, number), "
+               "why_untold(stamps, lines, lost, number, page), "
+               "is_why_untold(stamps, lines, lost, number, page, value), losses(stamps, lines, number, page), "
+               "greatest_told(stamps, lines, lost, pages), lines_told(stamps, lines)",
+    "room": "is_life(value), given_up(life, moment), still_needed(life, moment), fits(life, places), "
+            "first_full(life, places), least_places(life), roots_for(life, places), apart_lines(life, places), "
+            "are_apart_lines(life, places, value), with_roots(life, positions), places_with(life, roots), "
+            "disc_cells(pages, places), most_places(cells, pages)",
+    "versions": "Book(rows, newest); state_at(book, commit), laid(book, commit, writes), look(book, commit, key), "
+                "between(book, commit, low, high), first_from(book, commit, key), "
+                "many_between(book, commit, low, high), seen(book, commit), sees(book, commit, key, number), "
+                "span_of(book, key, number), history_of(book, key), commits_of(book), writes_of(book, number)",
 }
 METHODS = [
-    (disc.Disc, "write(cell, content), barrier(), read(cell), cells(), standing(), newest(), pending(), copy()"),
-    (lines.Line, "prime(), cells(), size()"),
+    (disc.Disc, "write(cell, content), barrier(), read(cell), cells(), standing(), newest(), pending(), copy()", True),
+    (lines.Line, "prime(), cells(), size()", True),
+    (versions.Book, "rows(), newest()", True),
 ]
 ERRORS = (
     "InvalidDisc InvalidCell InvalidContent InvalidChoice InvalidCode InvalidPage InvalidLine InvalidRun InvalidMoment "
@@ -71,11 +87,11 @@ class InterfaceTest(unittest.TestCase):
                 self.assertTrue(inspect.isfunction(member) or inspect.isclass(member))
 
     def test_methods_in_their_classes(self):
-        for held, row in METHODS:
+        for held, row, compared in METHODS:
             for name, parameters in told(row):
                 self.assertIn(name, vars(held))
                 self.assertEqual(list(inspect.signature(vars(held)[name]).parameters), ["self"] + parameters)
-            self.assertIn("__eq__", vars(held))
+            self.assertIs("__eq__" in vars(held), compared)
 
     def test_errors(self):
         self.assertEqual(errors.StoreError.__bases__, (ValueError,))

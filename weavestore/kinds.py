@@ -20,6 +20,11 @@ def is_count_below(value, bound):
     return is_count(value) and value < bound
 
 
+def is_count_from_one(value):
+    """Whether any object is a count of at least 1."""
+    return is_count(value) and value >= 1
+
+
 def is_tuple_of(value, length):
     """Whether any object is a tuple of so many parts."""
     return isinstance(value, tuple) and len(value) == length
