@@ -6,6 +6,7 @@ import itertools
 from weavestore import errors
 from weavestore.disc import Disc
 from weavestore.lines import Line
+from weavestore.transactions import Weave
 from weavestore.versions import Book
 
 GREAT = 2305843009213693951
@@ -24,6 +25,10 @@ def shape(value):
         return (kind, value.prime(), value.cells(), value.size())
     if isinstance(value, Book):
         return (kind, shape(value.rows()), value.newest())
+    if isinstance(value, Weave):
+        told = [[value.looks_of(name), value.writes_of(name), value.would_end(name), value.turned_looks(name)]
+                for name in value.under_way()]
+        return (kind, shape([value.book(), value.standing(), value.newest(), value.under_way(), value.held(), told]))
     if isinstance(value, errors.StoreError):
         return (kind, id(value))
     return (kind, value)
@@ -69,6 +74,8 @@ def odd_objects():
         Line(3, 2, 1), [Line(3, 2, 1)], errors.InvalidCell(3), [errors.Unlike()],
         ("a",), ("on", "ann"), ("row", "staff", 7), [("a",)], {("a",): ()}, {("a",): (1,)}, {("a",): None},
         {("a",): [(1, ())]}, {("a",): (True,)}, {(): ()}, Book({}, 0), Book({("a",): [(1, ())]}, 1), [Book({}, 0)],
+        "reader", "writer", "count staff", "unmake table staff", ("ended", 0), ("look", ("a",)), ("all",), ("key",),
+        ("is", "pay", "=", 1), ("count", "staff", None), [("name", "word")], ("strange", ("row",)), Weave(Book({}, 0), 0),
     ]
 
 
@@ -273,7 +280,11 @@ def some_deeds(chance, many, pages):
 
 
 def function_of(module, name):
-    return getattr(importlib.import_module("weavestore." + module), name)
+    """A function, or a method by the names of its class and of itself with a point between."""
+    held = importlib.import_module("weavestore." + module)
+    for part in name.split("."):
+        held = getattr(held, part)
+    return held
 
 
 def outcome_of(function, *given):

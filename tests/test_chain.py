@@ -223,7 +223,8 @@ class ChainTest(unittest.TestCase):
         twice = list(hurt)
         twice[7] = None
         for many in [1, 2, 3]:
-            for places in itertools.product(contents + [hurt, twice], repeat=many):
+            rings = list(itertools.product(contents + [hurt, twice], repeat=many))
+            for places in rings if many < 3 else rings[::4]:
                 places = list(places)
                 for start in range(many):
                     for ahead in [0, 1, 2]:

@@ -66,6 +66,18 @@ class ExamplesTest(unittest.TestCase):
     def test_versions(self):
         self.check("versions")
 
+    def test_clearing(self):
+        self.check("clearing")
+
+    def test_tables(self):
+        self.check("tables")
+
+    def test_questions(self):
+        self.check("questions")
+
+    def test_transactions(self):
+        self.check("transactions")
+
 
 if __name__ == "__main__":
     unittest.main()

@@ -5,7 +5,7 @@ import importlib
 import inspect
 import unittest
 
-from weavestore import disc, errors, lines, versions
+from weavestore import disc, errors, lines, transactions, versions
 
 ROWS = {
     "disc": "Disc(cells); may_hold(disc, cell), many_pictures(disc), picture_at(disc, number), "
@@ -55,11 +55,25 @@ ROWS = {
                 "between(book, commit, low, high), first_from(book, commit, key), "
                 "many_between(book, commit, low, high), seen(book, commit), sees(book, commit, key, number), "
                 "span_of(book, key, number), history_of(book, key), commits_of(book), writes_of(book, number)",
+    "clearing": "may_go(book, held, standing), must_stay(book, held, standing), cleared(book, held, standing), "
+                "who_sees(book, held, standing, key, number), is_same_for(one, other, held, standing), "
+                "is_cleared(book, held, standing)",
+    "tables": "is_right(state), forms(state), tables(state), row_writes(state, table, elder, newer), behind(key), "
+              "by_index(state, index, low, high), why_wrong(state), is_why_wrong(state, value), is_table_key(key)",
+    "questions": "passes(columns, test, row), plain_answer(state, wish), wish_text(wish), read_wish(text), "
+                 "answer_of(state, text), deed_text(deed), read_deed(text), deed_of(state, text), "
+                 "stretches(columns, test, column), ways(state, wish), looked(state, wish, way), "
+                 "answer_by(state, wish, way), best_way(state, wish)",
+    "transactions": "is_question(value), answer(state, question), laid_over(state, writes); Weave(book, standing)",
 }
 METHODS = [
     (disc.Disc, "write(cell, content), barrier(), read(cell), cells(), standing(), newest(), pending(), copy()", True),
     (lines.Line, "prime(), cells(), size()", True),
     (versions.Book, "rows(), newest()", True),
+    (transactions.Weave,
+     "book(), standing(), newest(), under_way(), held(), begin(name, kind), ask(name, question), put(name, key, thing), "
+     "drop(name, key), deed(name, text), give_up(name), end(name), would_end(name), looks_of(name), writes_of(name), "
+     "turned_looks(name), stand(number), fall(number), clear(pins), copy(), is_told(outcome)", False),
 ]
 ERRORS = (
     "InvalidDisc InvalidCell InvalidContent InvalidChoice InvalidCode InvalidPage InvalidLine InvalidRun InvalidMoment "

@@ -281,14 +281,15 @@ class LanguageTest(unittest.TestCase):
                         if called(node) in changing and isinstance(node.func.value, ast.Name):
                             self.assertNotIn(node.func.value.id, over, (name, node.lineno))
 
-    def test_error_classes_are_named_where_they_are_raised(self):
+    def test_error_classes_are_named_where_they_are_raised_or_caught(self):
         for name, tree in self.each():
             errors = {part.name for node in tree.body if isinstance(node, ast.ImportFrom)
                       and node.module == "weavestore.errors" for part in node.names}
             for node in ast.walk(tree):
                 if isinstance(node, ast.Name) and node.id in errors:
                     call = node.parent
-                    self.assertTrue(isinstance(call, ast.Call) and isinstance(call.parent, ast.Raise), node.lineno)
+                    raised = isinstance(call, ast.Call) and isinstance(call.parent, ast.Raise)
+                    self.assertTrue(raised or isinstance(call, ast.ExceptHandler), node.lineno)
 
 
 if __name__ == "__main__":

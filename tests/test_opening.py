@@ -216,7 +216,7 @@ class ToldTest(unittest.TestCase):
         lines = chain_of(deeds, [4])
         parts = [(number, page) for number in range(6) for page in range(1, 4)]
         rows = [list(row) for many in range(4) for row in itertools.product(parts[:15], repeat=many) if many < 3]
-        rows += [[chance.choice(parts) for _ in range(chance.randint(3, 5))] for _ in range(3000)]
+        rows += [[chance.choice(parts) for _ in range(chance.randint(3, 5))] for _ in range(800)]
         for stamps, lost in [({1: 0, 2: 0, 3: 0}, [2]), ({1: 0, 2: 2, 3: 0}, []), ({1: 4, 2: 0, 3: 0}, []),
                              ({1: 1, 2: 0, 3: 3}, [1, 2]), ({1: 0, 2: 0, 3: 0}, [])]:
             for number in [0, 2, 3, 4]:
