@@ -148,6 +148,15 @@ class ClearingTest(unittest.TestCase):
         with self.assertRaises(errors.InvalidSnapshot):
             is_same_for(other, one, [1], 5)
 
+    def test_commits_above_the_newest_are_none_of_the_book(self):
+        book = Book({("k",): [(1, ())]}, 3)
+        for function, more in [(may_go, []), (must_stay, []), (cleared, []), (is_cleared, []), (who_sees, [("k",), 1])]:
+            for held, standing, wanted in [([4], 3, errors.InvalidHeld), ([3], 4, errors.InvalidSnapshot), ([4], 4, errors.InvalidHeld)]:
+                with self.assertRaises(wanted) as caught:
+                    function(book, held, standing, *more)
+                self.assertIs(caught.exception.value, held if wanted is errors.InvalidHeld else standing)
+            function(book, [3], 3, *more)
+
     def test_what_is_returned_is_new(self):
         rows = {("k",): [(1, (1,)), (4, (2,))]}
         book = Book(rows, 4)

@@ -56,6 +56,18 @@ def told_by_trying(stamps, deeds, lost, number):
     return sorted(found)
 
 
+def told_by_words(stamps, deeds, lost, number):
+    """The pages that are told by the words of the document, whatever the stamps are."""
+    spoilt = []
+    for deed in deeds:
+        for page in deed[2]:
+            behind = [each for each in spoilt if each[1] == page and stamps[page] < each[0]]
+            if deed not in spoilt and (page in lost or stamps[page] >= deed[0] or behind):
+                spoilt.append(deed)
+    return [page for page in sorted(stamps) if page not in lost and stamps[page] <= number
+            and not [deed for deed in spoilt if deed[1] == page and stamps[page] < deed[0] <= number]]
+
+
 def all_whys(stamps, deeds, lost, number, page):
     """ALL lists that tell why a page is not told."""
     if page in lost or stamps[page] > number:
@@ -144,8 +156,13 @@ class OpenedTest(unittest.TestCase):
 class ToldTest(unittest.TestCase):
     def check(self, stamps, lines, lost, number):
         deeds = committed_deeds(lines)
-        told = told_pages(stamps, lines, lost, number)
+        told = self.check_whys(stamps, lines, lost, number)
         self.assertEqual(told, told_by_trying(stamps, deeds, lost, number), (stamps, lines, lost, number))
+
+    def check_whys(self, stamps, lines, lost, number):
+        deeds = committed_deeds(lines)
+        told = told_pages(stamps, lines, lost, number)
+        self.assertEqual(told, told_by_words(stamps, deeds, lost, number), (stamps, lines, lost, number))
         for page in stamps:
             why = why_untold(stamps, lines, lost, number, page)
             whys = all_whys(stamps, deeds, lost, number, page)
@@ -179,6 +196,41 @@ class ToldTest(unittest.TestCase):
                 stamps[page] = chance.choice([0] + [deed[0] for deed in done if deed[1] == page])
             lost = sorted(chance.sample(range(4), chance.choice([0, 0, 1, 1, 2, 4])))
             self.check(stamps, lines, lost, chance.randint(0, 9))
+
+    def test_stamps_whatever_they_are(self):
+        # Also stamps of no deed on their page, in whatever order the dictionary has them.
+        chance = random.Random(16)
+        for _ in range(1500):
+            deeds = some_deeds(chance, chance.randint(1, 7), 5)
+            lines = chain_of(deeds, [deed[0] for deed in deeds if chance.random() < 0.9])
+            pages = chance.sample(range(6), 6)
+            stamps = {page: chance.choice([0, 0, 0, chance.randint(0, 12)]) for page in pages}
+            lost = sorted(chance.sample(range(6), chance.choice([0, 1, 1, 2])))
+            number = chance.randint(0, 12)
+            self.check_whys(stamps, lines, lost, number)
+            page = chance.choice(pages)
+            if page in told_by_words(stamps, committed_deeds(lines), [], number):
+                wanted = [each for each in sorted(pages)
+                          if page not in told_by_words(stamps, committed_deeds(lines), [each], number)]
+                self.assertEqual(losses(stamps, lines, number, page), wanted)
+
+    def test_a_stamp_that_is_a_deeds_number_on_another_page(self):
+        lines = chain_of([(1, 1, [1, 2], ()), (2, 3, [3], ())], [1, 2])
+        self.assertEqual(told_pages({1: 0, 2: 1, 3: 0}, lines, [], 2), [2, 3])
+        self.assertEqual(why_untold({1: 0, 2: 1, 3: 0}, lines, [], 2, 1), [(1, 2)])
+        with self.assertRaises(errors.Refused):
+            opened({1: 0, 2: 1, 3: 0}, lines, 0)
+        self.assertEqual(opened({1: 1, 2: 1, 3: 0}, lines, 0), (2, [2]))
+
+    def test_a_row_through_the_deeds_that_matter(self):
+        deeds = [(1, 3, [3, 4], ()), (2, 1, [1, 5], ()), (3, 1, [1], ()), (4, 2, [1, 2], ()), (5, 2, [2], ())]
+        lines = chain_of(deeds, [5])
+        stamps = {page: 0 for page in [5, 4, 3, 2, 1]}
+        self.assertIn(why_untold(stamps, lines, [4, 5], 5, 2), all_whys(stamps, deeds, [4, 5], 5, 2))
+        self.assertIsNone(why_untold(stamps, lines, [4], 5, 2))
+        self.assertEqual(why_untold(stamps, lines, [4], 5, 3), [(1, 4)])
+        self.assertEqual(told_pages(stamps, lines, [4], 5), [1, 2, 5])
+        self.assertEqual(losses(stamps, lines, 5, 2), [1, 2, 5])
 
     def test_no_lost_page_and_right_stamps_tell_all(self):
         chance = random.Random(10)

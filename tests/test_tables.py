@@ -157,6 +157,17 @@ class RightTest(unittest.TestCase):
         self.assertIs(is_why_wrong(twice, ("twice", ("index", "yy"), ("index", "zz"))), True)
         self.assertIs(is_why_wrong(twice, ("twice", ("index", "zz"), ("index", "yy"))), False)
         self.check(twice)
+        # A row that has an index's table and column as its worths is no other index of it.
+        like = {("index", "a"): ("goods", "b", "any"), ("row", "none", "goods"): ("goods", "b"),
+                ("table", "goods"): ("x", "word", "b", "word")}
+        self.assertEqual(reasons(like), [("bare", ("row", "none", "goods"))])
+        self.check(like)
+        self.assertIs(is_why_wrong(like, ("twice", ("index", "a"), ("row", "none", "goods"))), False)
+        like = {("index", "a"): ("goods", "b", "any"), ("by", "a", "b", "c"): (), ("table", "index"): ("goods", "word", "b", "word"),
+                ("table", "goods"): ("x", "word", "b", "word"), ("row", "index", "goods"): ("goods", "b")}
+        self.assertEqual(reasons(like), [("bare", ("by", "a", "b", "c"))])
+        self.check(like)
+        self.assertIs(is_why_wrong(like, ("twice", ("index", "a"), ("row", "index", "goods"))), False)
         same = composed({"staff": (STAFF["staff"][0], STAFF["staff"][1], STAFF["staff"][2] + [("eve", "bonn", 7)])})
         self.assertEqual(why_wrong(same), ("twice", ("by", "pays", 7, "ann"), ("by", "pays", 7, "eve")))
         self.check(same)

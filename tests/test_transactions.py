@@ -457,7 +457,7 @@ class StandingTest(unittest.TestCase):
             self.assertIs(weave.is_told(("refused", 3, one, other)), True)
         weave.stand(5)
         self.assertIs(weave.is_told(("committed", 5)), True)
-        for odd in odd_objects() + [("ended",), ("ended", -1), ("ended", True), ("committed", 0), ("committed", True), ("committed", 1, 2),
+        for odd in odd_objects() + [("ended",), ("ended", -1), ("ended", True), ("ended", 1, 2), ("committed", 0), ("committed", True), ("committed", 1, 2),
                                     ("refused", 0, 1), ("refused", True, 1, 2), ("refused", -1, 1, 2), ["ended", 1], ("told", 1)]:
             if odd != ("ended", 0):
                 with self.assertRaises(errors.InvalidTransaction) as caught:

@@ -89,12 +89,20 @@ def why_undone(layout, state, deed):
     return why_no_row(layout, state, deed)
 
 
+def writes_of_rows(layout, table, pairs):
+    """The writes put together of tuples (elder, newer) of rows of a table."""
+    writes = {}
+    for elder, newer in pairs:
+        for key, thing in writes_between(layout, table, elder, newer).items():
+            writes[key] = thing
+    return writes
+
+
 def unmade_table(layout, state, table):
     """How many rows a table has, and the writes that take it out with its rows and indexes."""
     rows = rows_of(state, table)
-    writes = {("table", table): None}
-    for row in rows:
-        writes.update(writes_between(layout, table, row, None))
+    writes = writes_of_rows(layout, table, [(row, None) for row in rows])
+    writes[("table", table)] = None
     for index, column, manner in layout.indexes_of(table):
         writes[("index", index)] = None
     return (len(rows), writes)
@@ -114,20 +122,15 @@ def set_rows(layout, state, deed):
     word, table, column, worth, test = deed
     place = layout.place_in(table, column)
     elder = [row for row in passing(layout, state, table, test) if row[place] != worth]
-    writes = {}
-    for row in elder:
-        writes.update(writes_between(layout, table, row, (*row[:place], worth, *row[place + 1 :])))
-    return (len(elder), writes)
+    pairs = [(row, (*row[:place], worth, *row[place + 1 :])) for row in elder]
+    return (len(elder), writes_of_rows(layout, table, pairs))
 
 
 def erased_rows(layout, state, deed):
     """How many rows are erased, and the writes that do it."""
     word, table, test = deed
     rows = passing(layout, state, table, test)
-    writes = {}
-    for row in rows:
-        writes.update(writes_between(layout, table, row, None))
-    return (len(rows), writes)
+    return (len(rows), writes_of_rows(layout, table, [(row, None) for row in rows]))
 
 
 def many_and_writes(layout, state, deed):

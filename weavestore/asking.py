@@ -72,7 +72,7 @@ def is_text_of_deed(text):
 
 def is_asked(value):
     """Whether any object is a question."""
-    if not isinstance(value, tuple) or not value or not isinstance(value[0], str):
+    if not isinstance(value, tuple) or not value:
         return False
     if value[0] in OF_ONE_KEY:
         return is_tuple_of(value, 2) and is_key(value[1])
@@ -103,7 +103,7 @@ def told_in(state, question):
 def fresh(value):
     """What a look tells, in lists and dictionaries of its own."""
     if isinstance(value, list):
-        return [fresh(part) for part in value]
+        return list(value)
     if isinstance(value, tuple):
         return tuple([fresh(part) for part in value])
     if isinstance(value, dict):

@@ -74,14 +74,13 @@ def is_hurt_at(stamps, lost, deed, page):
 def spoilt_deeds(stamps, deeds, lost):
     """The list of the spoilt deeds."""
     found = []
-    # Page by page the number of the first spoilt deed behind the page's stamp.
-    first = {}
+    # The pages that a spoilt deed wrote behind their stamps: no later deed reads them as they were.
+    written = {}
     for deed in deeds:
-        hurt = [page for page in deed[2] if is_hurt_at(stamps, lost, deed, page) or page in first]
-        if hurt:
+        if any([is_hurt_at(stamps, lost, deed, page) or page in written for page in deed[2]]):
             found.append(deed)
-            if deed[0] > stamps[deed[1]] and deed[1] not in first:
-                first[deed[1]] = deed[0]
+            if deed[0] > stamps[deed[1]]:
+                written[deed[1]] = True
     return found
 
 
@@ -149,11 +148,11 @@ def is_why_untold(stamps, lines, lost, number, page, value):
     """Returns whether any object tells why a page is not told."""
     need_untold(stamps, lines, lost, number, page)
     if page in lost or stamps[page] > number:
-        return isinstance(value, list) and value == []
+        return value == []
     deeds = {deed[0]: deed for deed in deeds_of(lines)}
     if not are_reads(deeds, value):
         return False
-    if value[0][0] > number or not is_hurt_at(stamps, lost, deeds[value[-1][0]], value[-1][1]):
+    if not is_hurt_at(stamps, lost, deeds[value[-1][0]], value[-1][1]):
         return False
     if not all([read not in lost for each, read in value[:-1]]):
         return False

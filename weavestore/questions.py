@@ -150,7 +150,7 @@ def keys_read(state, wish, way):
 def need_way(state, wish, way):
     """Raises what is told for a state and a wish, then InvalidQuestion unless it is one of the ways."""
     need_fitting(state, wish)
-    if not isinstance(way, tuple) or not all([is_word(part) for part in way]) or way not in ways_of(state, wish):
+    if way not in ways_of(state, wish):
         raise InvalidQuestion(way)
 
 

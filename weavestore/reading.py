@@ -126,7 +126,8 @@ class Reader:
         while True:
             if self.part(levels):
                 while len(levels) > 1 and self.has(")"):
-                    levels[-2].take(levels.pop().whole())
+                    inner = levels.pop()
+                    levels[-1].take(inner.whole())
                 if self.has("or"):
                     levels[-1].choices.append([])
                 elif not self.has("and"):

@@ -1,7 +1,7 @@
 """Room in the log: which places of the ring may be written again, and the roots that make room in time."""
 
 from weavestore.errors import Full, InvalidCount, InvalidMoment, InvalidRun
-from weavestore.kinds import are_ascending_below, ascends, is_count, is_count_below, is_count_from_one, is_tuple_of
+from weavestore.kinds import are_ascending_below, is_count, is_count_below, is_count_from_one, is_tuple_of
 from weavestore.needs import need_count, need_count_from_one
 
 LINE = ("line",)
@@ -12,14 +12,12 @@ PLACE_CELLS = 20
 
 def is_stand(event):
     """Whether any object is a stand, by its form."""
-    return is_tuple_of(event, 2) and isinstance(event[0], str) and event[0] == "stand" and is_count(event[1])
+    return is_tuple_of(event, 2) and event[0] == "stand" and is_count(event[1])
 
 
 def is_event(event):
     """Whether any object is an event of a life, by its form."""
-    if is_tuple_of(event, 1):
-        return isinstance(event[0], str) and event[0] in ("line", "root")
-    return is_stand(event)
+    return event == LINE or event == ROOT or is_stand(event)
 
 
 def is_life(value):
@@ -165,8 +163,9 @@ def are_apart_lines(life, places, value):
     if apart is None or not isinstance(value, list) or len(value) != len(apart):
         return False
     spans = {number: (first, last) for number, first, last in spans_of(life, places)}
-    if not all([is_count(number) and number in spans for number in value]) or not ascends(value):
+    if not all([is_count(number) and number in spans for number in value]):
         return False
+    # The events of a later line come later, so numbers whose stretches lie apart in this order ascend.
     return all([spans[one][1] < spans[other][0] for one, other in zip(value, value[1:])])
 
 

@@ -48,7 +48,7 @@ class Layout:
 
 def is_table_word(word):
     """Whether a key that begins so is a table key."""
-    return isinstance(word, str) and word in PLACES
+    return word in PLACES
 
 
 def is_named(key):
@@ -62,7 +62,7 @@ def are_columns(value):
         return False
     if not all([is_tuple_of(part, 2) for part in value]):
         return False
-    if not all([is_word(column) and isinstance(kind, str) and kind in KINDS for column, kind in value]):
+    if not all([is_word(column) and kind in KINDS for column, kind in value]):
         return False
     return len({column for column, kind in value}) == len(value)
 

@@ -24,7 +24,7 @@ def forms(state):
     """Returns the dictionary from the tables to their columns and their indexes."""
     need_right(state)
     layout = Layout(state)
-    return {table: (list(columns), layout.indexes_of(table)) for table, columns in layout.tables.items()}
+    return {table: (columns, layout.indexes_of(table)) for table, columns in layout.tables.items()}
 
 
 def tables(state):
@@ -108,9 +108,9 @@ def why_wrong(state):
 def is_why_wrong(state, value):
     """Returns whether any object is a reason why a state is not right."""
     need_state(state)
-    if not isinstance(value, tuple) or not 2 <= len(value) <= 3 or not isinstance(value[0], str):
+    if not isinstance(value, tuple) or not all([is_key(key) for key in value[1:]]):
         return False
-    return all([is_key(key) for key in value[1:]]) and value in all_reasons(state)
+    return value in all_reasons(state)
 
 
 def is_table_key(key):

@@ -52,7 +52,7 @@ class Weave:
         """Begins a transaction, and returns its snapshot."""
         if not is_word(name) or name in self._doings:
             raise InvalidName(name)
-        if not isinstance(kind, str) or kind not in KINDS:
+        if kind not in KINDS:
             raise InvalidKind(kind)
         snapshot = self._standing
         if kind == "writer":
@@ -177,13 +177,11 @@ class Weave:
 
 def is_outcome(value):
     """Whether any object is an outcome, by its form."""
-    if not isinstance(value, tuple) or len(value) < 2 or not isinstance(value[0], str):
+    if is_tuple_of(value, 4):
+        return value[0] == "refused" and is_count(value[1])
+    if not is_tuple_of(value, 2):
         return False
-    if value[0] == "ended":
-        return len(value) == 2 and is_count(value[1])
-    if value[0] == "committed":
-        return len(value) == 2 and is_count_from_one(value[1])
-    return value[0] == "refused" and is_tuple_of(value, 4) and is_count(value[1])
+    return (value[0] == "ended" and is_count(value[1])) or (value[0] == "committed" and is_count_from_one(value[1]))
 
 
 def need_plain_key(key):

@@ -10,26 +10,21 @@ TURNS = ("up", "down")
 OF_COLUMN = ("sum", "least", "greatest", "group")
 
 
-def is_one_of(value, words):
-    """Whether any object is one of some strings."""
-    return isinstance(value, str) and value in words
-
-
 def is_leaf(value):
     """Whether a tuple is an "is"."""
-    return len(value) == 4 and is_word(value[1]) and is_one_of(value[2], SIGNS) and is_worth(value[3])
+    return len(value) == 4 and is_word(value[1]) and value[2] in SIGNS and is_worth(value[3])
 
 
 def begins_with(value, word):
     """Whether any object is a tuple that begins with a word."""
-    return isinstance(value, tuple) and len(value) > 0 and isinstance(value[0], str) and value[0] == word
+    return isinstance(value, tuple) and value[:1] == (word,)
 
 
 def parts_of(test):
-    """The list of the tests of which a test is made."""
+    """The tuple of the tests of which a test is made."""
     if test[0] == "is":
-        return []
-    return list(test[1:])
+        return ()
+    return test[1:]
 
 
 def is_knot(value):
@@ -126,11 +121,11 @@ def are_names(value):
 
 
 def is_find(value):
-    """Whether any object is a wish to find rows."""
-    if not is_tuple_of(value, 6) or not begins_with(value, "find"):
+    """Whether a tuple that begins with "find" is a wish."""
+    if len(value) != 6:
         return False
     word, names, table, test, order, most = value
-    if order is not None and not (is_tuple_of(order, 2) and is_word(order[0]) and is_one_of(order[1], TURNS)):
+    if order is not None and not (is_tuple_of(order, 2) and is_word(order[0]) and order[1] in TURNS):
         return False
     return are_names(names) and is_word(table) and is_test_or_none(test) and (most is None or is_count_from_one(most))
 
@@ -141,7 +136,7 @@ def is_wish(value):
         return is_find(value)
     if begins_with(value, "count"):
         return len(value) == 3 and is_word(value[1]) and is_test_or_none(value[2])
-    if not is_tuple_of(value, 4) or not is_one_of(value[0], OF_COLUMN):
+    if not is_tuple_of(value, 4) or value[0] not in OF_COLUMN:
         return False
     return is_word(value[1]) and is_word(value[2]) and is_test_or_none(value[3])
 
@@ -167,7 +162,7 @@ def names_of(wish):
     if wish[0] != "find":
         return [wish[1]]
     if wish[4] is None:
-        return list(wish[1])
+        return wish[1]
     return wish[1] + [wish[4][0]]
 
 

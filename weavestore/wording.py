@@ -1,10 +1,10 @@
 """Wishes and deeds of tables as texts: how they are written."""
 
 from weavestore.figures import figures_of
-from weavestore.wishes import inside_out, is_one_of, is_test_or_none, taken_off
 from weavestore.keys import is_worth
 from weavestore.kinds import is_tuple_of, is_word
 from weavestore.schemas import MANNERS, MOST_COLUMNS, are_columns
+from weavestore.wishes import inside_out, is_test_or_none, taken_off
 
 LENGTHS = {"make": 3, "unmake": 2, "index": 5, "unindex": 2, "put": 3, "exchange": 3, "set": 5, "erase": 3}
 
@@ -87,7 +87,7 @@ def is_table_deed(value):
     if word in ("put", "exchange"):
         return is_row_of_worths(value[2])
     if word == "index":
-        return is_word(value[2]) and is_word(value[3]) and is_one_of(value[4], MANNERS)
+        return is_word(value[2]) and is_word(value[3]) and value[4] in MANNERS
     if word == "set":
         return is_word(value[2]) and is_worth(value[3]) and is_test_or_none(value[4])
     return word != "erase" or is_test_or_none(value[2])
