@@ -5,6 +5,7 @@ import itertools
 
 from weavestore import errors
 from weavestore.disc import Disc
+from weavestore.hangs import Standing
 from weavestore.lines import Line
 from weavestore.transactions import Weave
 from weavestore.versions import Book
@@ -29,6 +30,8 @@ def shape(value):
         told = [[value.looks_of(name), value.writes_of(name), value.would_end(name), value.turned_looks(name)]
                 for name in value.under_way()]
         return (kind, shape([value.book(), value.standing(), value.newest(), value.under_way(), value.held(), told]))
+    if isinstance(value, Standing):
+        return (kind, shape([value.answers(), value.turned(), value.looked_at()]))
     if isinstance(value, errors.StoreError):
         return (kind, id(value))
     return (kind, value)

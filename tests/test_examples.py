@@ -78,6 +78,18 @@ class ExamplesTest(unittest.TestCase):
     def test_transactions(self):
         self.check("transactions")
 
+    def test_histories(self):
+        self.check("histories")
+
+    def test_weavings(self):
+        self.check("weavings")
+
+    def test_hangs(self):
+        self.check("hangs")
+
+    def test_differences(self):
+        self.check("differences")
+
 
 if __name__ == "__main__":
     unittest.main()

@@ -5,7 +5,7 @@ import importlib
 import inspect
 import unittest
 
-from weavestore import disc, errors, lines, transactions, versions
+from weavestore import disc, errors, hangs, lines, transactions, versions
 
 ROWS = {
     "disc": "Disc(cells); may_hold(disc, cell), many_pictures(disc), picture_at(disc, number), "
@@ -65,6 +65,20 @@ ROWS = {
                  "stretches(columns, test, column), ways(state, wish), looked(state, wish, way), "
                  "answer_by(state, wish, way), best_way(state, wish)",
     "transactions": "is_question(value), answer(state, question), laid_over(state, writes); Weave(book, standing)",
+    "histories": "is_history(value), is_right(history), first_wrong(history), right_event(history), states_of(history), "
+                 "standing_of(history), fates(history), told_places(history), row_of(history), is_row(history, value), "
+                 "all_rows(history), falls_of(history), with_fall(history, place, number), "
+                 "kept_by(history, place, number)",
+    "weavings": "is_program(value), done_alone(state, program), behind_row(state, programs, row), "
+                "woven(state, programs, order), endings(state, programs), rows_to(state, programs, ending), "
+                "most_refusals(state, programs), refusing_order(state, programs), "
+                "is_refusing_order(state, programs, value), never_refused(state, programs), once_rows(state, programs)",
+    "hangs": "changes_of(one, other), kept(state, wish), told_by(wish, held), led_on(columns, wish, held, changes), "
+             "hangs(state, wish, changes), is_beside(columns, wish, change), parting_rows(columns, wish, change), "
+             "is_parting(columns, wish, change, value); Standing(state, wishes)",
+    "differences": "difference(book, one, other), looked_through(book, one, other), laid_over(state, difference), "
+                   "turned_back(difference), one_behind(first, second), meets(first, second), both_of(first, second), "
+                   "merged(book, base, mine, theirs), table_changes(book, one, other)",
 }
 METHODS = [
     (disc.Disc, "write(cell, content), barrier(), read(cell), cells(), standing(), newest(), pending(), copy()", True),
@@ -74,6 +88,7 @@ METHODS = [
      "book(), standing(), newest(), under_way(), held(), begin(name, kind), ask(name, question), put(name, key, thing), "
      "drop(name, key), deed(name, text), give_up(name), end(name), would_end(name), looks_of(name), writes_of(name), "
      "turned_looks(name), stand(number), fall(number), clear(pins), copy(), is_told(outcome)", False),
+    (hangs.Standing, "lead(changes), answers(), turned(), looked_at()", False),
 ]
 ERRORS = (
     "InvalidDisc InvalidCell InvalidContent InvalidChoice InvalidCode InvalidPage InvalidLine InvalidRun InvalidMoment "

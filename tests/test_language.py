@@ -289,7 +289,8 @@ class LanguageTest(unittest.TestCase):
                 if isinstance(node, ast.Name) and node.id in errors:
                     call = node.parent
                     raised = isinstance(call, ast.Call) and isinstance(call.parent, ast.Raise)
-                    self.assertTrue(raised or isinstance(call, ast.ExceptHandler), node.lineno)
+                    caught = call.parent if isinstance(call, ast.Tuple) else call
+                    self.assertTrue(raised or isinstance(caught, ast.ExceptHandler), node.lineno)
 
 
 if __name__ == "__main__":

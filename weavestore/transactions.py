@@ -4,10 +4,10 @@ from weavestore.asking import Doing, fresh, is_asked, is_text_of_deed, told_in
 from weavestore.clearing import cleared, may_go
 from weavestore.errors import InvalidHeld, InvalidKey, InvalidKind, InvalidName, InvalidQuestion, InvalidSnapshot
 from weavestore.errors import InvalidThing, InvalidTransaction, InvalidWrites
-from weavestore.keys import are_writes, by_keys, is_key, is_thing, with_writes
+from weavestore.keys import are_writes, by_keys, is_thing, with_writes
 from weavestore.kinds import are_ascending_below, is_count, is_count_from_one, is_tuple_of, is_word
 from weavestore.needs import need_state
-from weavestore.schemas import is_table_word
+from weavestore.plain import is_plain_key
 from weavestore.versions import Book, laid_on, need_snapshot, state_of
 
 KINDS = ("reader", "writer")
@@ -186,7 +186,7 @@ def is_outcome(value):
 
 def need_plain_key(key):
     """Raises InvalidKey unless it is a key that is no table key."""
-    if not is_key(key) or is_table_word(key[0]):
+    if not is_plain_key(key):
         raise InvalidKey(key)
 
 
