@@ -90,6 +90,18 @@ class ExamplesTest(unittest.TestCase):
     def test_differences(self):
         self.check("differences")
 
+    def test_shelves(self):
+        self.check("shelves")
+
+    def test_store(self):
+        self.check("store")
+
+    def test_papers(self):
+        self.check("papers")
+
+    def test_scripts(self):
+        self.check("scripts")
+
 
 if __name__ == "__main__":
     unittest.main()

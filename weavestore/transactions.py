@@ -168,6 +168,10 @@ class Weave:
         self._book = cleared(self._book, held, self._standing)
         return gone
 
+    def exchange(self, book):
+        """Takes another book, of the same newest commit, in the place of its own one."""
+        self._book = book
+
     def is_told(self, outcome):
         """Returns whether an outcome may be told outside now."""
         if not is_outcome(outcome):

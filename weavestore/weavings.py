@@ -55,24 +55,24 @@ class Weaving:
     """What is done by an order of turns: who is under way, who is done, the refusals, and the state by now."""
 
     def __init__(self, state, programs):
-        self.state = state
+        self.now = state
         self.programs = programs
         self.commits = 0
-        self.under_way = {}
+        self.doing = {}
         self.ranks = {}
         self.refused = []
 
     def turn(self, place):
         """Lets a program that is not done have one turn."""
-        if place not in self.under_way:
-            deeds = Deeds(self.state, self.programs[place])
-            self.under_way[place] = (deeds, self.commits, deeds.turns - 1)
+        if place not in self.doing:
+            deeds = Deeds(self.now, self.programs[place])
+            self.doing[place] = (deeds, self.commits, deeds.turns - 1)
             return
-        deeds, snapshot, left = self.under_way[place]
+        deeds, snapshot, left = self.doing[place]
         if left > 1:
-            self.under_way[place] = (deeds, snapshot, left - 1)
+            self.doing[place] = (deeds, snapshot, left - 1)
             return
-        del self.under_way[place]
+        del self.doing[place]
         self.end(place, deeds, snapshot)
 
     def end(self, place, deeds, snapshot):
@@ -80,11 +80,11 @@ class Weaving:
         if not deeds.writes:
             self.ranks[place] = (snapshot, len(self.ranks) + 1)
             return
-        turned = deeds.turned_at(self.state)
+        turned = deeds.turned_at(self.now)
         if turned is not None:
             self.refused.append((place, turned))
             return
-        self.state = with_writes(self.state, deeds.writes)
+        self.now = with_writes(self.now, deeds.writes)
         self.commits = self.commits + 1
         # A committed one stands ahead of all whose snapshot is its commit.
         self.ranks[place] = (self.commits, 0)
@@ -112,7 +112,7 @@ def woven(state, programs, order):
     weaving = weaving_of(state, programs, order) if are_places(programs, order) else None
     if weaving is None:
         raise InvalidOrder(order)
-    return (weaving.row(), weaving.refused, by_keys(weaving.state))
+    return (weaving.row(), weaving.refused, by_keys(weaving.now))
 
 
 def all_rows_of(programs):
