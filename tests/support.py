@@ -7,10 +7,13 @@ from weavestore import errors
 from weavestore.disc import Disc
 from weavestore.hangs import Standing
 from weavestore.lines import Line
+from weavestore.store import Store
 from weavestore.transactions import Weave
 from weavestore.versions import Book
 
 GREAT = 2305843009213693951
+# One for all: no call that is tried changes it.
+STORE = Store(3, 4)
 
 
 def shape(value):
@@ -32,9 +35,21 @@ def shape(value):
         return (kind, shape([value.book(), value.standing(), value.newest(), value.under_way(), value.held(), told]))
     if isinstance(value, Standing):
         return (kind, shape([value.answers(), value.turned(), value.looked_at()]))
+    if isinstance(value, Store):
+        return (kind, store_shape(value))
     if isinstance(value, errors.StoreError):
         return (kind, id(value))
     return (kind, value)
+
+
+def store_shape(store):
+    """All that there is to tell of a store."""
+    told = [store.disc(), store.record(), store.is_down()]
+    if not store.is_down():
+        told += [store.shelf(), store.book(), store.standing(), store.stamps(), store.stamps_standing(), store.lines(), store.lines_standing(), store.run(),
+                 store.waits(), store.mixed_pages(), store.free_places(), [store.looks_of(name) for name in store.under_way()],
+                 [[name, store.writes_of(name), store.would_end(name)] for name in store.under_way()]]
+    return shape(told)
 
 
 def unordered(value):
@@ -79,6 +94,7 @@ def odd_objects():
         {("a",): [(1, ())]}, {("a",): (True,)}, {(): ()}, Book({}, 0), Book({("a",): [(1, ())]}, 1), [Book({}, 0)],
         "reader", "writer", "count staff", "unmake table staff", ("ended", 0), ("look", ("a",)), ("all",), ("key",),
         ("is", "pay", "=", 1), ("count", "staff", None), [("name", "word")], ("strange", ("row",)), Weave(Book({}, 0), 0),
+        Standing({}, {}), STORE,
     ]
 
 

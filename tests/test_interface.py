@@ -5,7 +5,7 @@ import importlib
 import inspect
 import unittest
 
-from weavestore import disc, errors, hangs, lines, transactions, versions
+from weavestore import disc, errors, hangs, lines, store, transactions, versions
 
 ROWS = {
     "disc": "Disc(cells); may_hold(disc, cell), many_pictures(disc), picture_at(disc, number), "
@@ -79,6 +79,18 @@ ROWS = {
     "differences": "difference(book, one, other), looked_through(book, one, other), laid_over(state, difference), "
                    "turned_back(difference), one_behind(first, second), meets(first, second), both_of(first, second), "
                    "merged(book, base, mine, theirs), table_changes(book, one, other)",
+    "shelves": "is_shelf(value), new_shelf(pages), page_of(shelf, key), keys_of(shelf, page), book_in(shelf, newest), "
+               "is_tidy(shelf), content_text(page, content), content_by(page, text), page_text(page, content, stamp), "
+               "page_by(page, text), made(shelf, deed), behind(shelf, deeds), "
+               "commit_deeds(shelf, commit, writes, number), clear_deeds(shelf, held, standing, number), "
+               "join_deeds(shelf, number), pins_in(shelf), root_of(shelf), pin_deed(shelf, name, commit, number), "
+               "unpin_deed(shelf, name, number), begin_deed(shelf, line, place, newest, number)",
+    "store": "Store(pages, places), replayed(store, record)",
+    "papers": "key_text(key), read_key(text), thing_text(thing), read_thing(text), writes_text(writes), "
+              "read_writes(text), picture_text(picture), read_picture(text), book_text(book), read_book(text), "
+              "history_text(history), read_history(text)",
+    "scripts": "play(store, script), script_text(script), read_script(text), end_of(pages, places, script), "
+               "shortened(pages, places, script), ends_by_choices(pages, places, script, lists)",
 }
 METHODS = [
     (disc.Disc, "write(cell, content), barrier(), read(cell), cells(), standing(), newest(), pending(), copy()", True),
@@ -89,6 +101,13 @@ METHODS = [
      "drop(name, key), deed(name, text), give_up(name), end(name), would_end(name), looks_of(name), writes_of(name), "
      "turned_looks(name), stand(number), fall(number), clear(pins), copy(), is_told(outcome)", False),
     (hangs.Standing, "lead(changes), answers(), turned(), looked_at()", False),
+    (store.Store,
+     "begin(name, kind), ask(name, question), put(name, key, thing), drop(name, key), deed(name, text), give_up(name), "
+     "would_end(name), looks_of(name), writes_of(name), turned_looks(name), under_way(), held(), book(), newest(), "
+     "standing(), is_told(outcome), end(name), ahead(name), free_places(), sync(), why_not_write(page), "
+     "write_back(page), mend(page), mixed_pages(), root(), clear(), join(), pin(name, commit), unpin(name), pins(), "
+     "cut(many), fall(picture), harm(harms), wake(), is_down(), disc(), shelf(), stamps(), stamps_standing(), lines(), "
+     "lines_standing(), run(), waits(), trial(), attempt(action), copy(), record()", False),
 ]
 ERRORS = (
     "InvalidDisc InvalidCell InvalidContent InvalidChoice InvalidCode InvalidPage InvalidLine InvalidRun InvalidMoment "

@@ -143,9 +143,9 @@ def page_text(page, content, stamp):
 
 def stamped(page, text):
     """The tuple of the content and of the stamp of a text of a page, None if it is none."""
-    figures, _, rest = text.partition(" ")
+    figures, blank, rest = text.partition(" ")
     content = content_of_text(page, rest)
-    if content is None or not fits_page(page, content):
+    if not blank or content is None or not fits_page(page, content):
         return None
     if not are_figures(figures) or len(figures) > MOST_FIGURES:
         return None
