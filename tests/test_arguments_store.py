@@ -8,7 +8,7 @@ from tests.plainhistories import is_history
 from tests.plainstore import Plain
 from tests.support import STORE, are_deeds, ascend, errors, is_cells, is_count, shape
 from tests.test_arguments_late import DAY, IN_BOOK
-from tests.test_arguments_tables import IN_KEY, IS_DEED_TEXT, QUESTION, is_outcome, is_plain_key, made
+from tests.test_arguments_tables import IN_KEY, IS_DEED_TEXT, QUESTION, is_outcome, is_plain_key, judge_writer, made, under_way
 from weavestore.store import Store
 
 ANN = ("on", "ann")
@@ -57,16 +57,6 @@ def make_down():
 
 
 MIXED, DOWN = make_mixed(), make_down()
-
-
-def under_way(value, given):
-    return plainbooks.is_word(value) and value in given["self"].under_way()
-
-
-def judge_writer(value, given):
-    if not under_way(value, given):
-        return errors.InvalidName
-    return errors.InvalidKind if value == "r" else None
 
 
 def judge_write_back(value, given):

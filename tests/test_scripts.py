@@ -79,7 +79,7 @@ class PlayTest(unittest.TestCase):
             self.assertTrue(one.disc() == other.disc())
 
     def test_errors(self):
-        for odd in odd_objects():
+        for odd in [part for part in odd_objects() if not isinstance(part, Store)]:
             error = outcome_of(play, odd, None)[0]
             self.assertIs(error.__class__, errors.InvalidStore)
             self.assertIs(error.value, odd)

@@ -791,7 +791,7 @@ class RecordTest(Day):
 
     def test_errors(self):
         store = Store(3, 4)
-        for odd in odd_objects():
+        for odd in [part for part in odd_objects() if not isinstance(part, Store)]:
             error = outcome_of(replayed, odd, None)[0]
             self.assertIs(error.__class__, errors.InvalidStore)
             self.assertIs(error.value, odd)

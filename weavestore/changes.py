@@ -3,7 +3,7 @@
 from weavestore.keys import is_worth
 from weavestore.kinds import ascends, is_tuple_of, is_word
 from weavestore.schemas import has_kind, is_row, rows_of
-from weavestore.wishes import does_pass, many_of_each, test_of
+from weavestore.wishes import does_pass, test_of, told_of_worths
 from weavestore.wording import is_row_of_worths
 
 
@@ -135,14 +135,7 @@ def answer_by_kept(wish, held):
         return found_by(wish, held)
     if wish[0] == "count":
         return len(held)
-    worths = [given for worth, given in held]
-    if wish[0] == "sum":
-        return sum(worths)
-    if wish[0] == "least":
-        return min(worths, default=None)
-    if wish[0] == "greatest":
-        return max(worths, default=None)
-    return many_of_each(worths)
+    return told_of_worths(wish[0], [given for worth, given in held])
 
 
 def kept_behind(columns, wish, held, changes):

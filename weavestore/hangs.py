@@ -164,11 +164,11 @@ class Standing:
             self._held[name] = kept_behind(self._tables[table_of(wish)], wish, self._held[name], own)
             self._looks = self._looks + len(own)
         for change in changes:
-            self._lay(change)
+            self._put(change)
         newer = self.answers()
         self._turned = [name for name in newer if newer[name] != elder[name]]
 
-    def _lay(self, change):
+    def _put(self, change):
         """Lays one change of a row."""
         table, elder, newer = change
         if newer is None:

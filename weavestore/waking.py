@@ -5,7 +5,7 @@ from weavestore.contents import DIRECTORY_PAGE, ROOT_PAGE
 from weavestore.errors import Refused
 from weavestore.loglines import LINE_CELLS
 from weavestore.opening import pages_told
-from weavestore.pages import PAGE_CELLS, is_whole, shown
+from weavestore.pages import PAGE_CELLS, shown, writes_over
 from weavestore.shelves import stamped
 
 
@@ -15,6 +15,12 @@ def text_at(picture, page):
         return shown(picture, page)
     except Refused:
         return None
+
+
+def is_mixed(picture, page, text):
+    """Whether the cells of a page are not just those of the text that is shown."""
+    start = PAGE_CELLS * page
+    return writes_over(picture[start : start + PAGE_CELLS], page, text) != []
 
 
 def ring_of_places(picture, pages):
@@ -43,7 +49,8 @@ class Findings:
         self.lost = [page for page, pair in enumerate(told) if pair is None]
         self.stamps = {page: 0 if pair is None else pair[1] for page, pair in enumerate(told)}
         self.contents = [None if pair is None else pair[0] for pair in told]
-        self.mixed = [page for page in range(pages) if not is_whole(picture, page)]
+        shown_pages = [page for page, text in enumerate(self.texts) if text is not None]
+        self.mixed = [page for page in shown_pages if is_mixed(picture, page, self.texts[page])]
         self.lines = []
         if ROOT_PAGE not in self.lost:
             self.lines = up_to_commit(chain_from(self.ring, self.root()[1], self.root()[0] - 1))

@@ -211,6 +211,17 @@ def found_rows(places, wish, rows):
     return [tuple([row[places[name]] for name in names]) for row in rows]
 
 
+def told_of_worths(word, worths):
+    """What a wish that begins with a word, of one column, tells of the column's worths."""
+    if word == "sum":
+        return sum(worths)
+    if word == "least":
+        return min(worths, default=None)
+    if word == "greatest":
+        return max(worths, default=None)
+    return many_of_each(worths)
+
+
 def told_by_rows(columns, wish, rows):
     """The answer of a wish by some rows of its table, key worths ascending."""
     rows = [row for row in rows if does_pass(columns, test_of(wish), row)]
@@ -219,11 +230,4 @@ def told_by_rows(columns, wish, rows):
     places = {column: at for at, (column, kind) in enumerate(columns)}
     if wish[0] == "find":
         return found_rows(places, wish, rows)
-    worths = [row[places[wish[1]]] for row in rows]
-    if wish[0] == "sum":
-        return sum(worths)
-    if wish[0] == "least":
-        return min(worths, default=None)
-    if wish[0] == "greatest":
-        return max(worths, default=None)
-    return many_of_each(worths)
+    return told_of_worths(wish[0], [row[places[wish[1]]] for row in rows])
