@@ -226,11 +226,18 @@ class MeaningTest(unittest.TestCase):
             ((1, 1, [1], ("point", ("m",), 4)), errors.Refused), ((1, 1, [1], ("point", ("n",), 3)), errors.Refused), ((1, 1, [1], ("point", ("n",), 0)), errors.Refused),
             ((1, 1, [1], ("point", ("n",), 1)), errors.Refused), ((1, 1, [1], ("point", ("n",), 5)), errors.InvalidDeed), ((1, 1, [1], ("unpoint", ("n",))), errors.Refused),
             ((1, 0, [0], ("unpin", "a")), errors.Refused), ((1, 0, [0], ("begin", 10 ** 40, 10 ** 40, 10 ** 40)), errors.Full), ((1, 0, [0], ("pin", "a", 10 ** 110)), errors.Full),
+            ((1, 5, [5], ("trim", ("a",))), errors.InvalidDeed), ((1, 4, [4, 5], ("copy", ("a",), 5)), errors.InvalidDeed),
             ((1, 2, [2, 3], ("copy", ("a",), 2)), errors.InvalidDeed), ((1, 2, [2], ("copy", ("a",), 3)), errors.InvalidDeed), ((1, 1, [1], ("trim", ("a",))), errors.InvalidDeed),
         ]:
             error = outcome_of(made, shelf, deed)[0]
             self.assertIs(error.__class__, wanted, deed)
             self.assertIs(error.value, deed)
+
+    def test_page_2_where_it_is_not_used(self):
+        shelf = [(1, 0, 0, {}), [(None, 3)], {}, {("a",): [(4, ())]}]
+        self.assertEqual(made(shelf, (1, 1, [1], ("point", ("n",), 2))), [(None, 3), (("n",), 2)])
+        self.assertEqual(made(shelf, (1, 2, [2, 3], ("copy", ("a",), 3))), {("a",): [(4, ())]})
+        self.assertEqual(commit_deeds(shelf, 5, {("a",): LONG, ("b",): LONG}, 1)[1][3], ("copy", ("b",), 3))
 
     def test_behind_a_list(self):
         chance = random.Random(92)

@@ -149,6 +149,7 @@ class ProgramTest(unittest.TestCase):
             self.assertIs(is_program([("unless", "x", answer, 1), ("drop", N)]), True)
             self.assertIs(is_program([("unless", "x", answer, 2), ("drop", N)]), False)
         self.assertIs(is_program([("put", N, (("more", "x", 10 ** 20),))]), True)
+        self.assertIs(is_program([("put", N, (1,) * 6)]), True)
         self.assertIs(is_program([]), False)
 
     def test_done_alone(self):
