@@ -280,6 +280,10 @@ class LanguageTest(unittest.TestCase):
                     for node in ast.walk(loop):
                         if called(node) in changing and isinstance(node.func.value, ast.Name):
                             self.assertNotIn(node.func.value.id, over, (name, node.lineno))
+                        if isinstance(node, ast.Subscript) and isinstance(node.ctx, (ast.Store, ast.Del)):
+                            copied = any(called(part) in {"list", "sorted", "range"} for part in ast.walk(loop.iter))
+                            if isinstance(node.value, ast.Name) and not copied:
+                                self.assertNotIn(node.value.id, over, (name, node.lineno))
 
     def test_error_classes_are_named_where_they_are_raised_or_caught(self):
         for name, tree in self.each():

@@ -69,7 +69,7 @@ class PlayTest(unittest.TestCase):
 
     def test_choices(self):
         script = DAY[:3] + [("begin", "b", "writer"), ("drop", "b", ANN), ("put", "b", ("z",), ()), ("end", "b")]
-        for choices in [[], [0], [1], [0, 1], [5, 4, 3, 2], [1] * 100, list(range(100)), [10 ** 20, 10 ** 20 + 1]]:
+        for choices in [[], [0], [1], [0, 1], [1, 1, 0], [0, 1, 1, 0, 0], [5, 4, 3, 2], [1] * 100, list(range(100)), [10 ** 20, 10 ** 20 + 1]]:
             one, other = Store(3, 6), Store(3, 6)
             play(one, script)
             play(other, script)

@@ -4,7 +4,7 @@ from weavestore.again import is_record, make_again
 from weavestore.asking import fresh
 from weavestore.backs import ahead_of
 from weavestore.chain import fresh_line
-from weavestore.clearing import cleared_book, may_go
+from weavestore.clearing import cleared_book, gone_rows, places_in
 from weavestore.contents import ROOT_PAGE
 from weavestore.disc import disc_of, fall, is_picture, with_cells
 from weavestore.errors import Fallen, Full, InvalidChoice, InvalidCommit, InvalidCount, InvalidName, InvalidPage
@@ -205,7 +205,7 @@ class Store:
         machine.note("clear")
         machine.tell_log("clear", [[deed] for deed in deeds], False)
         machine.weave.exchange(cleared_book(book, held, book.newest()))
-        return may_go(book, held, book.newest())
+        return places_in(gone_rows(book, held, book.newest()))
 
     def join(self):
         """Puts pages together."""

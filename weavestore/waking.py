@@ -36,16 +36,21 @@ def is_of_store(page, content, pages, places):
     return page != DIRECTORY_PAGE or all([used < pages for key, used in content])
 
 
+def told_by_text(page, text, pages, places):
+    """The tuple of the content and of the stamp that a text, or None, tells in a page of a store, None if none."""
+    told = None if text is None else stamped(page, text)
+    if told is None or not is_of_store(page, told[0], pages, places):
+        return None
+    return told
+
+
 class Findings:
     """What a picture of a store's disc with so many pages tells; lost pages have the stamp 0."""
 
     def __init__(self, picture, pages):
         self.ring = ring_of_places(picture, pages)
         self.texts = [text_at(picture, page) for page in range(pages)]
-        told = [None if text is None else stamped(page, text) for page, text in enumerate(self.texts)]
-        for page, pair in enumerate(told):
-            if pair is not None and not is_of_store(page, pair[0], pages, len(self.ring)):
-                told[page] = None
+        told = [told_by_text(page, text, pages, len(self.ring)) for page, text in enumerate(self.texts)]
         self.lost = [page for page, pair in enumerate(told) if pair is None]
         self.stamps = {page: 0 if pair is None else pair[1] for page, pair in enumerate(told)}
         self.contents = [None if pair is None else pair[0] for pair in told]
