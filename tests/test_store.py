@@ -373,6 +373,107 @@ class RingTest(Day):
         self.assertEqual(self.store.free_places(), 1 if self.store.newest() == 4 else 0)
 
 
+class WaitsTest(Day):
+    def parted(self):
+        """Pages 2 and 3 behind a parting: 2 waits for the copy in 3."""
+        self.start(4, 40)
+        self.put({("a",): LONG, ("m",): LONG})
+        self.do("sync")
+
+    def pair(self, early, late):
+        """The wait of the last write of one page's writing and of the first write of another one's."""
+        run = self.store.run()
+        first = {page: run.index(("write", 61 * page)) for page in (early, late)}
+        return (first[early] + 60, first[late])
+
+    def test_a_page_waits_for_the_copy_of_its_rows(self):
+        self.parted()
+        self.assertEqual(self.store.why_not_write(2), [("wait", 3, 2)])
+        self.do("write_back", 3)
+        self.assertEqual(self.store.why_not_write(2), [("wait", 3, 2)])
+        self.do("sync")
+        self.do("write_back", 2)
+        self.assertIn(self.pair(3, 2), self.store.waits())
+        self.do("sync")
+        self.do("write_back", 1)
+        self.do("sync")
+        self.assertEqual(self.store.waits(), sorted({(99, 101), (99, 102), self.pair(3, 2), (79, 165), (99, 165), (59, 228), (99, 228)}))
+        # A later writing waits for its own page's elder one, not for the copy again.
+        self.put({("a",): None})
+        self.do("sync")
+        self.do("write_back", 2)
+        first = len(self.store.run()) - 61
+        self.assertEqual([early for early, late in self.store.waits() if late == first], [225, first - 3])
+
+    def test_the_first_writing_that_is_new_enough(self):
+        self.parted()
+        self.do("write_back", 3)
+        self.do("sync")
+        self.put({("m",): None})
+        self.do("sync")
+        self.do("write_back", 3)
+        self.do("sync")
+        self.do("write_back", 2)
+        first = len(self.store.run()) - 61
+        run = self.store.run()
+        self.assertEqual([early for early, late in self.store.waits() if late == first], [79, 99, run.index(("write", 183)) + 60])
+
+    def test_none_where_it_stood_at_first(self):
+        self.parted()
+        self.do("write_back", 3)
+        self.do("fall", self.store.disc().newest())
+        self.do("wake")
+        self.assertEqual(self.store.stamps_standing(), {0: 0, 1: 0, 2: 0, 3: 5})
+        self.do("write_back", 2)
+        self.do("sync")
+        self.assertEqual(self.store.waits(), [])
+        self.put({("m",): (1,)})
+        self.do("sync")
+        self.do("write_back", 3)
+        self.assertEqual(len(self.store.waits()), 2)
+
+    def test_a_mended_page_that_is_written_back_behind(self):
+        for cells in [[0], [5], [0, 1], [60], [0, 60]]:
+            self.start(3, 6)
+            self.put({ANN: (1,)})
+            self.do("sync")
+            old = self.store.disc().standing()
+            self.do("write_back", 2)
+            new = self.store.disc().newest()
+            for cell in cells:
+                old[122 + cell] = new[122 + cell]
+            self.do("fall", old)
+            self.do("wake")
+            self.do("mend", 2)
+            self.assertEqual(self.store.run(), [("write", 122 + cell) for cell in cells])
+            self.do("sync")
+            self.do("write_back", 2)
+            first = len(cells) + 2
+            self.assertEqual(self.store.waits(), [(len(cells) - 1, first + 1 if cells == [0] else first)])
+
+    def test_a_place_that_is_written_again(self):
+        self.start(3, 4)
+        self.put({ANN: (1,)})
+        self.back()
+        self.do("root")
+        self.do("sync")
+        self.do("write_back", 0)
+        self.do("sync")
+        root = self.store.run().index(("write", 0)) + 60
+        for at in range(2):
+            self.put({BOB: (at,)})
+        self.do("sync")
+        self.do("write_back", 2)
+        self.do("sync")
+        # The last place that is free takes a root: it is the one that was given up.
+        self.assertEqual((self.store.free_places(), self.do("root")), (1, 4))
+        run = self.store.run()
+        again = [at for at, event in enumerate(run) if event == ("write", 183)][1]
+        self.assertIn((root, again), self.store.waits())
+        self.assertEqual([late for early, late in self.store.waits() if early == root], [again])
+        self.assertEqual(self.store.free_places(), 0)
+
+
 class HouseworkTest(Day):
     def test_clearing_keeps_what_somebody_can_come_to(self):
         self.start(3, 40)
@@ -641,7 +742,8 @@ class FallenTest(Day):
     def test_texts_of_another_page_are_none_of_a_page(self):
         self.start(3, 4)
         self.do("fall", self.store.disc().standing())
-        for page, text, fine in [(1, "0 1 0 0", False), (1, "0 2;a>1", False), (0, "0 2", False), (2, "0 ", True), (2, "a=1:1", False), (0, "0 1 0 0;p:0", True), (2, "", False)]:
+        for page, text, fine in [(1, "0 1 0 0", False), (1, "0 2;a>1", False), (0, "0 2", False), (2, "0 ", True), (2, "a=1:1", False), (0, "0 1 0 0;p:0", True), (2, "", False),
+                                 (0, "0 1 3 0", True), (0, "0 1 4 0", False), (1, "0 2;a>3", False)]:
             with self.store.trial() as store:
                 store.harm(dict(page_writes(page, text)))
                 error = outcome_of(store.wake)[0]
