@@ -500,8 +500,7 @@ class HouseworkTest(Day):
         self.assertEqual(self.do("pin", "p", 0), None)
         self.put({ANN: (1,)})
         for odd in [1, 2, True, False, None, -1, "0"]:
-            if odd is not False:
-                self.assertEqual(self.do("pin", "q", odd), "InvalidCommit")
+            self.assertEqual(self.do("pin", "q", odd), "InvalidCommit")
         self.do("begin", "w", "writer")
         self.assertEqual((self.do("pin", "q", 1), self.store.pins()), (None, {"p": 0, "q": 1}))
         self.do("give_up", "w")
@@ -532,6 +531,52 @@ class HouseworkTest(Day):
         self.do("sync")
         self.assertEqual([line[0] for line in self.store.lines()], [3, 4])
         self.assertEqual((self.store.free_places(), self.store.lines_standing()), (18, 4))
+
+
+    def test_a_clearing_of_nothing_wants_no_place(self):
+        self.start(3, 4)
+        for at in range(3):
+            self.put({("k", at): (at,)})
+        self.back()
+        self.do("root")
+        self.assertEqual((self.store.free_places(), self.do("clear")), (0, []))
+
+    def test_a_root_that_does_not_fit(self):
+        self.start(3, 40)
+        for last in "abcdefghi":
+            self.assertIsNone(self.do("pin", "abcdefg" + last, 0))
+        self.assertEqual(self.do("pin", "abcdefgj", 0), "Full")
+        self.assertIsNone(self.do("pin", "a", 0))
+        self.assertEqual(len(self.plain.text(0)), 3 + 108)
+        self.back()
+        self.assertEqual(self.do("root"), "Full")
+        self.do("unpin", "a")
+        self.assertEqual((self.do("root"), self.store.shelf()[0][:3]), (10, (11, 10, 0)))
+
+    def test_wakes_of_a_new_store_and_behind_a_root(self):
+        self.start(3, 5)
+        for at in range(7):
+            self.do("fall", self.store.disc().standing())
+            self.assertEqual(self.do("wake"), at)
+            self.assertEqual(self.put({ANN: (at,)}), ("committed", at + 1))
+            self.back()
+            self.do("root")
+            self.back()
+        self.assertEqual(self.store.book().rows()[ANN][-1], (7, (6,)))
+
+    def test_a_stamp_that_is_the_first_line_s(self):
+        self.start(4, 20)
+        self.put({("m",): LONG})
+        self.back()
+        self.put({("a",): LONG})
+        self.do("sync")
+        self.assertEqual((self.do("root"), self.store.why_not_write(2)), (1, [("wait", 3, 2)]))
+        self.do("sync")
+        self.do("write_back", 0)
+        self.do("sync")
+        self.do("write_back", 3)
+        self.do("sync")
+        self.assertEqual((self.store.lines()[0][0], self.store.stamps_standing()[3], self.store.why_not_write(2)), (2, 2, []))
 
 
 class FallenTest(Day):
@@ -708,6 +753,22 @@ class FallenTest(Day):
             late.sync()
             self.assertEqual(late.why_not_write(2), [("mixed",)])
             self.assertIs(outcome_of(late.write_back, 2)[0].__class__, errors.Refused)
+
+    def test_a_single_cell_that_is_odd(self):
+        for cell in [122, 150, 182]:
+            self.begun()
+            self.do("end", "w")
+            self.back()
+            self.do("fall", self.store.disc().standing())
+            self.do("harm", {cell: (0, 5)})
+            self.assertEqual((self.do("wake"), self.store.mixed_pages(), self.store.why_not_write(2)), (2, [2], [("newest",)]))
+            self.put({ANN: (3,)})
+            self.do("sync")
+            self.assertEqual(self.store.why_not_write(2), [("mixed",)])
+            self.do("mend", 2)
+            self.assertEqual(self.store.run()[-1], ("write", cell))
+            self.do("sync")
+            self.assertEqual(self.store.why_not_write(2), [])
 
     def test_harms(self):
         self.begun()
