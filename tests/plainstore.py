@@ -329,9 +329,9 @@ class Plain:
         self.disc, self.down, self.fallen, self.left = discs.disc_of(picture), True, True, None
 
     def harm(self, harms):
-        late = discs.with_cells(self.disc.standing(), harms)
         if not self.fallen:
             raise errors.Refused(harms)
+        late = discs.with_cells(self.disc.standing(), harms)
         self.record.append(("harm", dict(harms)))
         self.disc = discs.disc_of(late)
 

@@ -635,10 +635,10 @@ class FallenTest(Day):
         self.assertEqual(shape([self.store.disc(), self.store.record()]), before)
         error = outcome_of(self.store.wake)[0]
         self.assertEqual((error.__class__, error.value), (errors.Refused, "wake"))
-        harms = {0: None}
-        error = outcome_of(self.store.harm, harms)[0]
-        self.assertIs(error.__class__, errors.Refused)
-        self.assertIs(error.value, harms)
+        for harms in [{0: None}, {}, None, {-1: 5}]:
+            error = outcome_of(self.store.harm, harms)[0]
+            self.assertIs(error.__class__, errors.Refused)
+            self.assertIs(error.value, harms)
         self.assertIs(self.store.copy().is_down(), True)
         self.assertEqual(self.store.attempt(lambda store: store.is_down()), True)
         self.do("fall", self.store.disc().standing())

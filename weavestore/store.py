@@ -272,9 +272,9 @@ class Store:
     def harm(self, harms):
         """Changes cells of the disc that a fall left."""
         machine = self.machine
-        late = with_cells(machine.drive.standing(), harms)
         if not machine.fallen:
             raise Refused(harms)
+        late = with_cells(machine.drive.standing(), harms)
         machine.note("harm", {cell: content for cell, content in harms.items()})
         machine.drive = disc_of(late)
 
